@@ -249,3 +249,17 @@ func (g *Graft) states(nodes []int) []int {
 	g.F.States = left
 	return as
 }
+
+// Repred lets a block be come to from another block than from. Preds rise, so the phis' arguments move along.
+func (g *Graft) Repred(b, from, now int) {
+	x := &g.F.Blocks[b]
+	k := slices.Index(x.Preds, from)
+	preds := slices.Delete(slices.Clone(x.Preds), k, k+1)
+	at, _ := slices.BinarySearch(preds, now)
+	x.Preds = slices.Insert(preds, at, now)
+	for _, n := range x.Phis {
+		arg := g.F.Nodes[n].Args[k]
+		args := slices.Delete(slices.Clone(g.F.Nodes[n].Args), k, k+1)
+		g.F.Nodes[n].Args = slices.Insert(args, at, arg)
+	}
+}
