@@ -267,9 +267,14 @@ func (g *Gear) Apply(op, a, b int, n int64, args []frames.Slot) (frames.Slot, Ev
 	return integer(x)
 }
 
+// make makes an object; the roots are asked for only where there is no room for it.
 func (g *Gear) make(class, n int) (frames.Slot, Event) {
-	r, now, is := gc.MakeBy(g.Heap, class, n, g.Roots(), g.Collect)
-	g.SetRoots(now)
+	r, is := gc.Try(g.Heap, class, n)
+	if !is {
+		var now []int
+		r, now, is = gc.MakeBy(g.Heap, class, n, g.Roots(), g.Collect)
+		g.SetRoots(now)
+	}
 	if !is {
 		return frames.Slot{}, Event{Kind: Full}
 	}
