@@ -4,6 +4,7 @@ import (
 	"math"
 
 	"overdrive/api"
+	"overdrive/scan"
 	"overdrive/word"
 )
 
@@ -67,69 +68,36 @@ func (w *writer) slots(l []Slot) {
 
 // Read is the record of these bytes.
 func Read(b []byte) (Record, error) {
-	r := &reader{b: b}
+	r := reader{scan.New(b)}
 	var out Record
-	n := r.number(maxList)
-	for k := 0; k < n && r.err == nil; k++ {
-		out.Frames = append(out.Frames, Frame{Method: r.number(math.MaxInt32), PC: r.number(math.MaxInt32), Locals: r.slots(), Stack: r.slots()})
+	n := r.Number(0, maxList)
+	for k := 0; k < n && r.Good(); k++ {
+		out.Frames = append(out.Frames, Frame{Method: r.number(), PC: r.number(), Locals: r.slots(), Stack: r.slots()})
 	}
-	n = r.number(maxList)
-	for k := 0; k < n && r.err == nil; k++ {
-		out.Virtuals = append(out.Virtuals, Virtual{Class: r.number(math.MaxInt32), Fields: r.slots()})
+	n = r.Number(0, maxList)
+	for k := 0; k < n && r.Good(); k++ {
+		out.Virtuals = append(out.Virtuals, Virtual{Class: r.number(), Fields: r.slots()})
 	}
-	if r.err == nil && r.at < len(b) {
-		r.err = &api.At{Pos: r.at, Err: api.ErrByte}
-	}
-	if r.err != nil {
-		return Record{}, r.err
+	if err := r.End(); err != nil {
+		return Record{}, err
 	}
 	return out, nil
 }
 
-// reader goes through bytes, number by number, up to the first that may not be.
-type reader struct {
-	b   []byte
-	at  int
-	err error
-}
+// reader reads the parts of a record.
+type reader struct{ *scan.Reader }
 
-func (r *reader) number(most int) int {
-	if r.err != nil {
-		return 0
-	}
-	u, next, is := word.Take(r.b, r.at)
-	switch {
-	case is && u <= uint64(most):
-		r.at = next
-		return int(u)
-	case !is && r.cut():
-		r.err = &api.At{Pos: len(r.b), Err: api.ErrEnd}
-	default:
-		r.err = &api.At{Pos: r.at, Err: api.ErrByte}
-	}
-	return 0
-}
+func (r reader) number() int { return r.Number(0, math.MaxInt32) }
 
-// cut tells whether the bytes end within the number, ahead of its tenth byte.
-func (r *reader) cut() bool {
-	rest := r.b[r.at:]
-	for _, x := range rest {
-		if x < 128 {
-			return false
-		}
-	}
-	return len(rest) < 10
-}
-
-func (r *reader) slots() []Slot {
-	n := r.number(maxList)
+func (r reader) slots() []Slot {
+	n := r.Number(0, maxList)
 	var out []Slot
-	for k := 0; k < n && r.err == nil; k++ {
-		x := Slot{Kind: r.number(math.MaxInt32)}
+	for k := 0; k < n && r.Good(); k++ {
+		x := Slot{Kind: r.number()}
 		if x.Kind == Integer {
-			x.N = int(word.Zag(uint64(r.number(math.MaxUint32))))
+			x.N = int(word.Zag(uint64(r.Number(0, math.MaxUint32))))
 		} else {
-			x.N = r.number(math.MaxInt32)
+			x.N = r.number()
 		}
 		out = append(out, x)
 	}

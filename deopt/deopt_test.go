@@ -16,16 +16,7 @@ import (
 	"overdrive/verify"
 )
 
-func in(op int, l ...int) api.Instr {
-	i := api.Instr{Op: op}
-	if len(l) > 0 {
-		i.A = l[0]
-	}
-	if len(l) > 1 {
-		i.B = l[1]
-	}
-	return i
-}
+var in = sample.In
 
 // info has a method that calls another one over what lies on its stack, and never gets to its last instruction.
 func info(t *testing.T) *verify.Info {

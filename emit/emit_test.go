@@ -23,7 +23,7 @@ import (
 	"overdrive/verify"
 )
 
-func in(op, a int) api.Instr { return api.Instr{Op: op, A: a} }
+var in = sample.In
 
 func info(t *testing.T, locals string, main []api.Instr, more ...api.Method) *verify.Info {
 	t.Helper()

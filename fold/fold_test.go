@@ -87,16 +87,7 @@ func pass(t *testing.T, v *verify.Info, f api.Function) api.Function {
 	return g
 }
 
-func in(op int, l ...int) api.Instr {
-	i := api.Instr{Op: op}
-	switch {
-	case op == api.Const:
-		i.N = int64(l[0])
-	case len(l) > 0:
-		i.A = l[0]
-	}
-	return i
-}
+var in = sample.In
 
 func of(t *testing.T, guesses []build.Guess, code ...api.Instr) (*verify.Info, api.Function) {
 	t.Helper()

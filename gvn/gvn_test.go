@@ -26,16 +26,7 @@ func TestFree(t *testing.T) {
 	}
 }
 
-func in(op int, l ...int) api.Instr {
-	i := api.Instr{Op: op}
-	switch {
-	case op == api.Const:
-		i.N = int64(l[0])
-	case len(l) > 0:
-		i.A = l[0]
-	}
-	return i
-}
+var in = sample.In
 
 func info(t *testing.T, locals string, code ...api.Instr) *verify.Info {
 	t.Helper()

@@ -15,16 +15,7 @@ import (
 	"overdrive/verify"
 )
 
-func in(op int, l ...int) api.Instr {
-	i := api.Instr{Op: op}
-	switch {
-	case op == api.Const:
-		i.N = int64(l[0])
-	case len(l) > 0:
-		i.A = l[0]
-	}
-	return i
-}
+var in = sample.In
 
 func info(t *testing.T, locals string, main []api.Instr, more ...api.Method) *verify.Info {
 	t.Helper()

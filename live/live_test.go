@@ -7,10 +7,11 @@ import (
 	"testing"
 
 	"overdrive/api"
+	"overdrive/sample"
 	"overdrive/verify"
 )
 
-func in(op, a int) api.Instr { return api.Instr{Op: op, A: a} }
+var in = sample.In
 
 func of(t *testing.T, params, locals string, code ...api.Instr) (*verify.Info, *Map) {
 	t.Helper()

@@ -6,6 +6,21 @@ import (
 	"overdrive/verify"
 )
 
+// In is an instruction: of a Const its N, of others their A and B.
+func In(op int, l ...int) api.Instr {
+	i := api.Instr{Op: op}
+	switch {
+	case op == api.Const && len(l) > 0:
+		i.N = int64(l[0])
+	case len(l) > 0:
+		i.A = l[0]
+	}
+	if len(l) > 1 {
+		i.B = l[1]
+	}
+	return i
+}
+
 // Dice are numbers that follow from a first one.
 type Dice struct{ state uint64 }
 

@@ -7,19 +7,11 @@ import (
 	"testing"
 
 	"overdrive/api"
+	"overdrive/sample"
 	"overdrive/verify"
 )
 
-func in(op int, l ...int) api.Instr {
-	i := api.Instr{Op: op}
-	if len(l) > 0 {
-		i.A = l[0]
-	}
-	if len(l) > 1 {
-		i.B = l[1]
-	}
-	return i
-}
+var in = sample.In
 
 // info is a loop with a call in it, whose method is laid in by function.
 func info(t *testing.T) *verify.Info {
