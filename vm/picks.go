@@ -122,7 +122,7 @@ func (m *VM) vals(p *emit.Point, l []deopt.Slot) []Val {
 			v := m.engine.Value(p.Places[slot.N])
 			x = Val{Ref: v.Ref, N: v.N}
 		case deopt.Object:
-			x = Val{Virtual: true, N: int64(slot.N)}
+			x = Val{Ref: true, Virtual: true, N: int64(slot.N)}
 		}
 		out = append(out, x)
 	}

@@ -10,7 +10,9 @@ import (
 	"overdrive/codec"
 	"overdrive/heap"
 	"overdrive/interp"
+	"overdrive/live"
 	"overdrive/model"
+	"overdrive/prog"
 	"overdrive/sample"
 	"overdrive/script"
 	"overdrive/verify"
@@ -239,14 +241,23 @@ func TestRoom(t *testing.T) {
 	}
 }
 
-// checkSnap asks that the map names just the references of the frames and of what is not there.
+func all(int) bool { return true }
+
+// checkSnap asks that each slot is told as what it is, and that the map names just the references of the frames and of what is not there.
 func checkSnap(t *testing.T, v *verify.Info, s Snap) {
 	t.Helper()
 	var refs []int
 	named := map[int64]int{}
-	take := func(l []Val) {
-		for _, x := range l {
+	take := func(l []Val, kinds string, counts func(k int) bool) {
+		if len(l) != len(kinds) {
+			t.Fatal("slots", s)
+		}
+		for k, x := range l {
 			switch {
+			case !counts(k) && x != Val{}:
+				t.Fatal("does not count", s)
+			case counts(k) && x.Ref != (kinds[k] == 'R'):
+				t.Fatal("letters", s)
 			case x.Virtual:
 				named[x.N]++
 			case x.Ref && x.N != 0:
@@ -256,26 +267,23 @@ func checkSnap(t *testing.T, v *verify.Info, s Snap) {
 	}
 	for i, f := range s.Frames {
 		stack, is := v.Stack(f.Method, f.PC)
+		asked := live.Of(v, f.Method).Locals(f.PC)
 		if i+1 < len(s.Frames) {
+			asked = live.Of(v, f.Method).Behind(f.PC)
 			call := v.Program().Methods[f.Method].Code[f.PC]
 			if call.Op != api.Call || call.A != s.Frames[i+1].Method {
 				t.Fatal("beneath", s)
 			}
 			stack = stack[:len(stack)-len(v.Program().Methods[call.A].Params)]
 		}
-		if !is || len(f.Stack) != len(stack) {
+		if !is {
 			t.Fatal("frame", s)
 		}
-		for k, x := range f.Stack {
-			if (x.Ref || x.Virtual) != (stack[k] == 'R') {
-				t.Fatal("letters", s)
-			}
-		}
-		take(f.Locals)
-		take(f.Stack)
+		take(f.Locals, prog.Kinds(v.Program().Methods[f.Method]), func(k int) bool { return slices.Contains(asked, k) })
+		take(f.Stack, stack, all)
 	}
-	for _, l := range s.Loose {
-		take(l)
+	for k, l := range s.Loose {
+		take(l, v.Program().Classes[s.Virtuals[k].Class].Fields, all)
 	}
 	slices.Sort(refs)
 	if refs = slices.Compact(refs); !slices.Equal(refs, s.Map) {
